@@ -69,7 +69,7 @@ func TestRecord(t *testing.T) {
 		t.Error("Size")
 	}
 	r := rand.New(rand.NewSource(1))
-	for _, seq := range []int{0, 1, 2, 255, 256, 1 << 20, math.MaxUint32 - 1, math.MaxUint32, math.MaxUint32 + 1, math.MaxInt, -1, -2, math.MinInt} {
+	for _, seq := range []int{0, 1, 2, 255, 256, 1 << 20, 0x01020304, math.MaxUint32 - 1, math.MaxUint32, math.MaxUint32 + 1, math.MaxInt, -1, -2, math.MinInt} {
 		var last api.Hash
 		r.Read(last[:])
 		h := head(seq)

@@ -37,3 +37,23 @@ func TestWitnesses(t *testing.T) {
 		}
 	}
 }
+
+// P12.4: which claims clash.
+func TestUnlike(t *testing.T) {
+	a := claim{root: api.Hash{1}, total: 5, pos: 2, h: api.Hash{2}}
+	for k, x := range []struct {
+		b    claim
+		want bool
+	}{
+		{a, false},
+		{claim{root: api.Hash{1}, total: 5, pos: 2, h: api.Hash{3}}, true},
+		{claim{root: api.Hash{1}, total: 6, pos: 2, h: api.Hash{3}}, false},
+		{claim{root: api.Hash{9}, total: 5, pos: 2, h: api.Hash{3}}, false},
+		{claim{root: api.Hash{1}, total: 5, pos: 3, h: api.Hash{3}}, false},
+		{claim{}, false},
+	} {
+		if unlike(a, x.b) != x.want || unlike(x.b, a) != x.want {
+			t.Error(k)
+		}
+	}
+}
